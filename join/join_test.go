@@ -624,42 +624,6 @@ func TestComparisonOfRowsThatAreNotPutTogether(t *testing.T) {
 	}
 }
 
-func TestTotalsAreWithoutBounds(t *testing.T) {
-	r := rand.New(rand.NewSource(4))
-	l := edges()
-	for range 20000 {
-		var got total
-		sum := new(big.Int)
-		for range 1 + r.Intn(6) {
-			v, w := l[r.Intn(len(l))], l[r.Intn(len(l))]
-			for _, sign := range []int64{1, 1, 1, -1, -1, -1}[r.Intn(3) : 4+r.Intn(3)] {
-				got.add(v, sign*w)
-				sum.Add(sum, new(big.Int).Mul(big.NewInt(v), big.NewInt(sign*w)))
-			}
-		}
-		w, ok := got.weight()
-		if ok != sum.IsInt64() || ok && w != sum.Int64() || !ok && w != 0 {
-			t.Errorf("%v: %d, %v", sum, w, ok)
-		}
-	}
-	for _, v := range []int64{most, least} {
-		var got total
-		for range 1 << 16 {
-			got.add(v, least)
-		}
-		if _, ok := got.weight(); ok {
-			t.Errorf("2^16 times %d times the least is no number beyond", v)
-		}
-		for range 1 << 16 {
-			got.add(v, most)
-			got.add(v, 1)
-		}
-		if w, ok := got.weight(); w != 0 || !ok {
-			t.Errorf("%d, %v", w, ok)
-		}
-	}
-}
-
 // call is Join with some pairs.
 type call struct {
 	name  string

@@ -8,6 +8,7 @@ import (
 
 	"belvedere/api"
 	"belvedere/row"
+	"belvedere/sum"
 )
 
 // line is an entry of a with those of b that fit it and are still to come, in the order of their rows; never none.
@@ -76,11 +77,11 @@ func fitting(on [][2]int, r api.Row, sorted []api.Entry) []api.Entry {
 }
 
 // take takes the row that is next out of all lines, with its weights together. There is a line.
-func (l *lines) take() (joined, total) {
-	next, t := (*l)[0].next(), total{}
+func (l *lines) take() (joined, sum.Total) {
+	next, t := (*l)[0].next(), sum.Total{}
 	for len(*l) > 0 && (*l)[0].next().compare(next) == 0 {
 		first := &(*l)[0]
-		t.add(first.a.Weight, first.b[0].Weight)
+		t.Add(first.a.Weight, first.b[0].Weight)
 		l.skip()
 	}
 	return next, t
